@@ -19,6 +19,31 @@ func vectorOf(kind int, items ...impl.Item) impl.Vector {
 	return impl.Vector{Kind: kind, Items: items}
 }
 
+// logicals takes the ints of chapter 3: 2 is the missing value.
+func logicals(list ...int) impl.Vector {
+	v := impl.Vector{Kind: impl.KindLogical}
+	for _, x := range list {
+		v.Items = append(v.Items, []impl.Item{whole(0), whole(1), missingItem()}[x])
+	}
+	return v
+}
+
+func numbers(list ...int) impl.Vector {
+	v := impl.Vector{Kind: impl.KindNumber}
+	for _, x := range list {
+		v.Items = append(v.Items, whole(x))
+	}
+	return v
+}
+
+func texts(list ...string) impl.Vector {
+	v := impl.Vector{Kind: impl.KindText}
+	for _, s := range list {
+		v.Items = append(v.Items, word(s))
+	}
+	return v
+}
+
 func listOf(parts ...impl.Vector) impl.Vector {
 	return impl.Vector{Kind: impl.KindList, Parts: parts}
 }
