@@ -837,7 +837,7 @@ func TestRepeatVector(t *testing.T) {
 			v, problem := impl.RepeatVector(s.vector, n)
 			switch {
 			case s.vector.Kind == impl.KindFunction:
-				checkProblem(t, s.name, v, problem, "not a vector of elements")
+				checkProblem(t, s.name, v, problem, notElements)
 			case n < 0 || n > 40 || faultOf(repeatByText(s.vector, n)) != "":
 				checkProblem(t, s.name+" "+strconv.Itoa(n)+" times", v, problem, tooLarge)
 			default:
