@@ -1312,18 +1312,23 @@ func TestProblemsOfAssignSubset(t *testing.T) {
 					continue
 				}
 				checkProblem(t, name, got, problem, problems[0])
-				if len(problems) == 1 {
-					alone[problem]++
-				}
-				for i, first := range problems {
-					for _, second := range problems[i+1:] {
-						pairs[first+", "+second]++
-					}
-				}
+				countProblems(alone, pairs, problems)
 			}
 		}
 	}
 	checkCombinations(t, alone, pairs)
+}
+
+// countProblems counts the problem of one call if it is alone, and otherwise each two of its problems.
+func countProblems(alone map[string]int, pairs map[string]int, problems []string) {
+	if len(problems) == 1 {
+		alone[problems[0]]++
+	}
+	for i, first := range problems {
+		for _, second := range problems[i+1:] {
+			pairs[first+", "+second]++
+		}
+	}
 }
 
 // checkCombinations checks that the problems have been there alone and in pairs, except in those pairs that cannot be.
