@@ -805,6 +805,8 @@ func TestEachSubscriptOfRows(t *testing.T) {
 		for _, bad := range badSubscripts() {
 			g, problem := impl.SelectRows(f, bad.s)
 			checkProblem(t, "rows "+fieldsOf(bad.s)+" of "+fieldsOf(f), g, problem, bad.want)
+			g, problem = impl.SelectRows(classed(f), bad.s)
+			checkProblem(t, "rows "+fieldsOf(bad.s)+" of a list", g, problem, notFrame)
 		}
 		for _, s := range subscriptsOf(rowsByText(f), nil) {
 			checkRows(t, f, s)
@@ -847,6 +849,8 @@ func TestSizesOfSelectedRows(t *testing.T) {
 				} else {
 					checkResult(t, name, g, problem, equalColumns(count, c.want))
 				}
+				g, problem = impl.SelectRows(classed(equalColumns(count, texts("u")), "c"), c.s)
+				checkProblem(t, "no frame, "+name, g, problem, notFrame)
 			}
 		}
 	}
@@ -1437,6 +1441,8 @@ func TestProblemsOfAddColumn(t *testing.T) {
 			checkProblem(t, name, g, problem, c.want)
 		}
 		checkAdded(t, c.f, c.name, c.v)
+		g, problem = impl.AddColumn(classed(c.f, "data.frame", "c"), c.name, c.v)
+		checkProblem(t, "no frame, "+name, g, problem, notFrame)
 	}
 }
 
@@ -1483,6 +1489,10 @@ func TestProblemsOfBindRows(t *testing.T) {
 		checkProblem(t, fieldsOf(c.f)+" and "+fieldsOf(c.g), both, problem, c.want)
 		checkBound(t, c.f, c.g)
 		checkBound(t, c.g, c.f)
+		both, problem = impl.BindRows(classed(c.f, "data.frame", "c"), c.g)
+		checkProblem(t, "the first one is no frame: "+fieldsOf(c.f), both, problem, notFrame)
+		both, problem = impl.BindRows(c.f, classed(c.g))
+		checkProblem(t, "the second one is no frame: "+fieldsOf(c.g), both, problem, notFrame)
 	}
 }
 
